@@ -1,0 +1,1 @@
+"""Tickets and their coupons, from stock to an end."""
