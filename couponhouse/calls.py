@@ -9,6 +9,14 @@ DEPART = 5
 CANCEL = 6
 REVALIDATE = 7
 SUSPEND = 8
+EXCHANGE = 9
+REFUND = 10
+CREDIT = 11
+TICKET = 12
+HEAPS = 13
+LIFTED = 14
+ON = 15
+VALID = 16
 
 # The plain arguments of each call, by the call's place.
 PLAIN = (

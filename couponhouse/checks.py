@@ -28,6 +28,10 @@ def coupon_refusal(house, number, n):
     return GRANTED
 
 
+def may_all_be_issued(house, coupons, last):
+    return house.today <= last and all([may_be_issued(house, coupon, last) for coupon in coupons])
+
+
 def may_be_issued(house, coupon, last):
     if coupon.origin == coupon.goal:
         return False

@@ -1,6 +1,6 @@
 """The call clock: a day begins, and what is too old runs out."""
 
-from couponhouse.records import OPEN, RUN_OUT, SUSPENDED
+from couponhouse.records import OPEN, RUN_OUT, SUSPENDED, taxes_of, values_of
 from couponhouse.refusals import DAY_GOES_BACK, GRANTED
 
 
@@ -9,11 +9,10 @@ def clock(house, day):
         return [DAY_GOES_BACK]
     house.today = day
     coupons = run_out_coupons(house)
-    values = sum([coupon.value for coupon in coupons])
-    taxes = sum([coupon.tax for coupon in coupons])
+    values = values_of(coupons)
     lost = run_out_credits(house)
     house.kept = house.kept + values + sum(lost)
-    return [GRANTED, len(coupons), values, taxes, len(lost), sum(lost)]
+    return [GRANTED, len(coupons), values, taxes_of(coupons), len(lost), sum(lost)]
 
 
 def run_out_coupons(house):

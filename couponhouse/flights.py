@@ -1,6 +1,6 @@
 """The calls on one flight: depart and cancel."""
 
-from couponhouse.records import BOARDED, CHECKED_IN, CONTROLLED, FLOWN, OPEN, SUSPENDED
+from couponhouse.records import BOARDED, CHECKED_IN, CONTROLLED, FLOWN, OPEN, SUSPENDED, taxes_of, values_of
 from couponhouse.refusals import FLIGHT_GONE, GRANTED, TABLE_FULL
 
 MOST_GONE = 64
@@ -19,9 +19,7 @@ def depart(house, carrier, num, day):
         coupon.status = FLOWN
     for coupon in left_behind:
         coupon.status = OPEN
-    values = sum([coupon.value for coupon in flown])
-    taxes = sum([coupon.tax for coupon in flown])
-    return [GRANTED, len(flown), values, taxes, len(left_behind)]
+    return [GRANTED, len(flown), values_of(flown), taxes_of(flown), len(left_behind)]
 
 
 def cancel(house, carrier, num, day):

@@ -34,6 +34,18 @@ class Coupon:
         return self.status in (FLOWN, EXCHANGED, REFUNDED, VOID, RUN_OUT)
 
 
+def values_of(coupons):
+    return sum([coupon.value for coupon in coupons])
+
+
+def taxes_of(coupons):
+    return sum([coupon.tax for coupon in coupons])
+
+
+def worths_of(coupons):
+    return sum([coupon.worth() for coupon in coupons])
+
+
 class Ticket:
     """A ticket; drawn holds a pair of a credit and an amount for each credit that helped to pay."""
 

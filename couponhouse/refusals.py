@@ -1,7 +1,6 @@
 """The refusals' numbers, and GRANTED, which a check gives back where it refuses nothing."""
 
 GRANTED = 0
-NOT_OF_FORM = -1
 OUT_OF_RANGE = -2
 WRONG_NUMBER = -3
 NO_TICKET = -4
@@ -15,3 +14,4 @@ FLIGHT_GONE = -11
 OUT_OF_ORDER = -12
 DAY_GOES_BACK = -13
 WRONG_FORMS = -14
+TWICE_OR_UNLIKE = -15

@@ -1,7 +1,7 @@
 """The calls issue and void."""
 
-from couponhouse.checks import may_be_issued, ticket_refusal
-from couponhouse.records import Coupon, OPEN, Ticket, VOID
+from couponhouse.checks import may_all_be_issued, ticket_refusal
+from couponhouse.records import Coupon, OPEN, Ticket, VOID, worths_of
 from couponhouse.refusals import GRANTED, NOT_ALLOWED, NOT_ISSUABLE, TABLE_FULL, WRONG_CREDIT, WRONG_FORMS
 from couponhouse.stocks import forms_left, next_ticket_number
 
@@ -14,7 +14,7 @@ def issue(house, passenger, last, row, credit_ids):
     refused = issue_refusal(house, passenger, last, coupons, credit_ids)
     if refused != GRANTED:
         return [refused]
-    price = sum([coupon.worth() for coupon in coupons])
+    price = worths_of(coupons)
     drawn = draw(house, credit_ids, price)
     cash = price - sum([part for credit, part in drawn])
     ticket = Ticket(next_ticket_number(house), passenger, house.today, last, coupons, cash, drawn, False)
@@ -32,7 +32,7 @@ def new_coupons(row):
 
 
 def issue_refusal(house, passenger, last, coupons, credit_ids):
-    if last < house.today or not all([may_be_issued(house, coupon, last) for coupon in coupons]):
+    if not may_all_be_issued(house, coupons, last):
         return NOT_ISSUABLE
     if not are_credits_of(house, passenger, credit_ids):
         return WRONG_CREDIT

@@ -1,6 +1,5 @@
 """Calls as short words, and a test case that watches the house between calls."""
 
-import copy
 import unittest
 
 from couponhouse.calls import read_calls
@@ -9,7 +8,10 @@ from couponhouse.records import Credit, House
 
 OPEN, CONTROLLED, CHECKED_IN, BOARDED, FLOWN = 0, 1, 2, 3, 4
 EXCHANGED, REFUNDED, VOIDED, RUN_OUT, SUSPENDED = 5, 6, 7, 8, 9
+ASKING = range(11, 18)
 ENDED = (FLOWN, EXCHANGED, REFUNDED, VOIDED, RUN_OUT)
+
+TO_CREDIT, TO_CASH, TO_KEEP = 0, 1, 2
 
 TAKE, GIVE_UP, CHECK_IN, TAKE_OFF, BOARD, TAKE_OFF_BOARD = 1, 2, 3, 4, 5, 6
 
@@ -59,6 +61,47 @@ def suspend(number, n=0, s=1):
     return [8, number, n, s]
 
 
+def exchange(old, legs, penalty=0, mode=TO_CREDIT, last=30):
+    row = [number for one in legs for number in one]
+    return exchange_rows([number for pair in old for number in pair], row, penalty, mode, last)
+
+
+def exchange_rows(old_row, new_row, penalty=0, mode=TO_CREDIT, last=30):
+    return [9, penalty, mode, last, len(old_row), *old_row, len(new_row), *new_row]
+
+
+def refund(number, places, penalty=0):
+    return [10, number, penalty, len(places), *places]
+
+
+def credit(credit_id):
+    return [11, credit_id]
+
+
+def ticket(number):
+    return [12, number]
+
+
+def heaps():
+    return [13]
+
+
+def lifted(carrier=3):
+    return [14, carrier]
+
+
+def on(carrier=3, num=12, day=10):
+    return [15, carrier, num, day]
+
+
+def valid(number):
+    return [16, number]
+
+
+def tickets():
+    return [17]
+
+
 def number_of(form):
     return 10 * form + form % 7
 
@@ -89,6 +132,7 @@ class HouseCase(unittest.TestCase):
         self.told = []
         self.reached_in = False
         self.forced = False
+        self.tally = Tally()
 
     def tearDown(self):
         self.compare_with_answers()
@@ -99,14 +143,18 @@ class HouseCase(unittest.TestCase):
             self.assertEqual(run(*self.calls), self.told)
 
     def ask(self, call):
-        before = copy.deepcopy(self.house)
-        place, plain, rows = read_calls(call)[0]
-        answer = answer_to(self.house, place, plain, rows)
+        before = picture(self.house)
+        seen = look_round(self.house)
+        answer = answer_of(self.house, call)
         self.calls.append(call)
         self.told.append(answer)
         if answer[0] < 0:
             self.assertEqual(len(answer), 1)
-            self.assertEqual(picture(before), picture(self.house))
+        if answer[0] < 0 or call[0] in ASKING:
+            self.assertEqual(picture(self.house), before)
+            self.assertEqual(look_round(self.house), seen)
+        else:
+            self.tally.note(call[0], answer[1:])
         self.assert_money_adds_up()
         return answer
 
@@ -137,7 +185,20 @@ class HouseCase(unittest.TestCase):
         self.reached_in = True
         self.house.credit_table.append(Credit(passenger, amount, last))
         self.house.cash_in += amount
+        self.tally.cash_in += amount
         return len(self.house.credit_table)
+
+    def earn(self, amount, passenger=5):
+        """A credit that calls made: all of a ticket's worth, for a ticket worth nothing.
+
+        That ticket's one coupon runs out behind today. Given back is the credit's id.
+        """
+        day = self.house.today
+        number = self.sell(leg(num=9999, day=day, value=amount, tax=0), passenger=passenger, last=day)
+        answer = self.ask(exchange([(number, 0)], [leg(num=9999, day=day, value=0, tax=0)], last=day))
+        self.assertEqual(answer[0], 0)
+        self.assertEqual(answer[2:4] + answer[5:], [0, 0, amount, 0])
+        return answer[4]
 
     def amounts(self):
         return [credit.amount for credit in self.house.credit_table]
@@ -152,26 +213,73 @@ class HouseCase(unittest.TestCase):
         return [coupon.free for coupon in self.house.ticket_of[number].coupons]
 
     def assert_heaps(self, cash_in=0, cash_out=0, kept=0):
-        house = self.house
-        self.assertEqual((house.cash_in, house.cash_out, house.kept), (cash_in, cash_out, kept))
+        told = answer_of(self.house, heaps())
+        self.assertEqual((told[1], told[2], told[4]), (cash_in, cash_out, kept))
 
     def assert_money_adds_up(self):
+        """What heaps tells is what the calls told one by one, and no unit of money is lost."""
         if self.forced:
             return
-        house = self.house
-        held = house.kept + sum(credit.amount for credit in house.credit_table)
-        for coupon in all_coupons(house):
-            if coupon.status == FLOWN:
-                held += coupon.value + coupon.tax
-            elif coupon.status == RUN_OUT:
-                held += coupon.tax
-            elif coupon.status not in ENDED:
-                held += coupon.value + coupon.tax
-        self.assertEqual(house.cash_in - house.cash_out, held)
+        told = answer_of(self.house, heaps())
+        tally = self.tally
+        self.assertEqual(told[:6], [0, tally.cash_in, tally.cash_out, tally.lifted, tally.kept, tally.due])
+        self.assertEqual(told[6], owed_by(self.house))
+        self.assertEqual(told[1] - told[2], sum(told[3:]))
 
 
-def all_coupons(house):
-    return [coupon for ticket in house.tickets for coupon in ticket.coupons]
+class Tally:
+    """The heaps as the answers tell them, added up call by call."""
+
+    def __init__(self):
+        self.cash_in = self.cash_out = self.lifted = self.kept = self.due = 0
+
+    def note(self, place, told):
+        if place == 0:
+            self.kept += told[1] + told[4]
+            self.due += told[2]
+        elif place == 2:
+            self.cash_in += told[1]
+        elif place == 3:
+            self.cash_out += told[0]
+        elif place == 5:
+            self.lifted += told[1]
+            self.due += told[2]
+        elif place == 9:
+            self.cash_in += told[1]
+            self.cash_out += told[2]
+            self.kept += told[5]
+        elif place == 10:
+            self.cash_out += told[0]
+            self.kept += told[1]
+
+
+def answer_of(house, call):
+    place, plain, rows = read_calls(call)[0]
+    return answer_to(house, place, plain, rows)
+
+
+def coupons_told(house):
+    """Each coupon's nine numbers, as the call ticket tells them."""
+    found = []
+    for number in answer_of(house, tickets())[1:]:
+        told = answer_of(house, ticket(number))[4:]
+        found += [told[at:at + 9] for at in range(0, len(told), 9)]
+    return found
+
+
+def owed_by(house):
+    living = sum(one[5] + one[6] for one in coupons_told(house) if one[7] not in ENDED)
+    return living + sum(answer_of(house, credit(k + 1))[2] for k in range(len(house.credit_table)))
+
+
+def look_round(house):
+    """All that the calls that only ask tell of the house."""
+    found = [answer_of(house, heaps()), answer_of(house, tickets())]
+    found += [answer_of(house, ticket(number)) for number in found[1][1:]]
+    found += [answer_of(house, credit(k + 1)) for k in range(len(house.credit_table) + 1) if k < 64]
+    flights = sorted({tuple(one[:3]) for one in coupons_told(house)})
+    found += [answer_of(house, on(*flight)) for flight in flights]
+    return found + [answer_of(house, lifted(carrier)) for carrier in sorted({flight[0] for flight in flights})]
 
 
 def picture(thing):

@@ -27,6 +27,13 @@ METHODS = set(
 )
 
 
+BARRED_NAMES = set(
+    "register mro elements open input version_info with_traceback add_note attrgetter breakpoint builtins compile "
+    "copyright credits delattr dir eval exec exit gc getattr globals hasattr help id importlib license locals "
+    "methodcaller os quit setattr super type vars sys chr format format_map".split()
+)
+
+
 class LanguageTest(unittest.TestCase):
     def files(self):
         return sorted(path for path in PACKAGE.rglob("*") if path.is_file() and "__pycache__" not in path.parts)
@@ -85,3 +92,70 @@ class LanguageTest(unittest.TestCase):
             for node in ast.walk(tree):
                 if isinstance(node, ast.Call) and isinstance(node.func, ast.Attribute):
                     self.assertIn(node.func.attr, METHODS | own, name)
+
+    def test_barred_and_plain_names(self):
+        for name, tree in self.trees():
+            for node in ast.walk(tree):
+                found = [getattr(node, field, None) for field in ("id", "attr", "arg", "name")]
+                for one in [one for one in found if isinstance(one, str) and one != "__init__"]:
+                    self.assertNotIn(one, BARRED_NAMES, name)
+                    self.assertRegex(one, r"^[A-Za-z]", name)
+
+    def test_locals_are_not_called_like_imports_or_classes(self):
+        for name, tree in self.trees():
+            taken = {alias.name for node in tree.body if isinstance(node, ast.ImportFrom) for alias in node.names}
+            taken |= {node.name for node in tree.body if isinstance(node, ast.ClassDef)}
+            for node in ast.walk(tree):
+                if isinstance(node, ast.Name) and isinstance(node.ctx, ast.Store):
+                    self.assertNotIn(node.id, taken, name)
+                if isinstance(node, ast.arg):
+                    self.assertNotIn(node.arg, taken, name)
+
+    def test_names_are_drawn_from_the_file_that_defines_them_and_used(self):
+        tops = {name: top_names(tree) for name, tree in self.trees()}
+        for name, tree in self.trees():
+            read = {node.id for node in ast.walk(tree) if isinstance(node, ast.Name)}
+            for node in tree.body:
+                if isinstance(node, ast.ImportFrom):
+                    home = node.module.split(".")[1] + ".py"
+                    for alias in node.names:
+                        self.assertIn(alias.name, tops[home], name)
+                        self.assertIn(alias.name, read, name)
+            self.assertEqual(len(tops[name]), len(set(tops[name])), name)
+
+    def test_no_two_files_draw_from_one_another(self):
+        drawn = {}
+        for name, tree in self.trees():
+            modules = [node.module for node in tree.body if isinstance(node, ast.ImportFrom)]
+            drawn[name] = {module.split(".")[1] + ".py" for module in modules}
+        while drawn:
+            free = [name for name in drawn if not drawn[name] & set(drawn)]
+            self.assertNotEqual(free, [], drawn)
+            for name in free:
+                drawn.pop(name)
+
+    def test_is_and_texts(self):
+        for name, tree in self.trees():
+            for node in ast.walk(tree):
+                if isinstance(node, ast.Compare) and any(isinstance(op, (ast.Is, ast.IsNot)) for op in node.ops):
+                    self.assertTrue(all(isinstance(one, ast.Constant) for one in node.comparators), name)
+                if isinstance(node, ast.Constant) and isinstance(node.value, str):
+                    self.assertNotIn("%", node.value, name)
+                self.assertNotIsInstance(node, ast.Pow, name)
+
+    def test_no_name_is_a_method_and_a_value(self):
+        methods, given = set(), set()
+        for name, tree in self.trees():
+            for node in ast.walk(tree):
+                if isinstance(node, ast.ClassDef):
+                    methods |= {part.name for part in node.body if isinstance(part, ast.FunctionDef)}
+                if isinstance(node, ast.Attribute) and isinstance(node.ctx, ast.Store):
+                    given.add(node.attr)
+        own = set(dir("") + dir(0) + dir([]) + dir({}) + dir(set()) + dir(b""))
+        self.assertEqual(methods & given, set())
+        self.assertEqual((methods | given) & own, {"__init__"})
+
+
+def top_names(tree):
+    found = [node.name for node in tree.body if isinstance(node, (ast.FunctionDef, ast.ClassDef))]
+    return found + [target.id for node in tree.body if isinstance(node, ast.Assign) for target in node.targets]

@@ -1,5 +1,5 @@
 from tests.support import CONTROLLED, GIVE_UP, HouseCase, OPEN, TAKE, VOIDED
-from tests.support import cancel, clock, leg, revalidate, stock, suspend, use, void
+from tests.support import cancel, clock, exchange, leg, revalidate, stock, suspend, use, void
 
 
 class VoidTest(HouseCase):
@@ -30,10 +30,12 @@ class VoidTest(HouseCase):
         self.refuses(-9, void(number))
 
     def test_not_if_issued_in_exchange(self):
-        number = self.sell(leg())
-        self.reached_in = True
-        self.house.ticket_of[number].in_exchange = True
-        self.refuses(-9, void(number))
+        number = self.sell(leg(), leg())
+        for legs in ([leg()], [leg(value=200)]):
+            answer = self.ask(exchange([(number, 0)], legs))
+            self.assertEqual(answer[0], 0)
+            number = answer[1]
+            self.refuses(-9, void(number))
 
     def test_all_coupons_must_be_open(self):
         for n in range(3):
